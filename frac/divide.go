@@ -8,7 +8,7 @@ func (a words) div(b words) (quotient, rest words) {
 	case a.compare(b) < 0:
 		return nil, a
 	case a.short():
-		return fromUint(a.uint() / b.uint()), fromUint(a.uint() % b.uint())
+		return fromUint(a.value() / b.value()), fromUint(a.value() % b.value())
 	case len(b) == 1:
 		quotient = a.clone()
 		left := quotient.divWord(b[0])

@@ -17,7 +17,7 @@ func (a words) gcd(b words) words {
 		return a
 	}
 	_, rest := a.div(b)
-	return fromUint(gcdUint(b.uint(), rest.uint()))
+	return fromUint(gcdUint(b.value(), rest.value()))
 }
 
 func gcdUint(a, b uint64) uint64 {

@@ -47,10 +47,10 @@ func (a words) at(place int) uint64 {
 	return 0
 }
 
-// short reports whether a fits in 64 bits; only then may it be read by uint.
+// short reports whether a fits in 64 bits; only then does value tell it.
 func (a words) short() bool { return len(a) <= 2 }
 
-func (a words) uint() uint64 { return a.at(1)<<wordBits | a.at(0) }
+func (a words) value() uint64 { return a.at(1)<<wordBits | a.at(0) }
 
 // cut takes a apart: it is low plus high times 2^32 to the power of place.
 func (a words) cut(place int) (low, high words) {
